@@ -1,0 +1,61 @@
+"""The names, parameters and places of everything that the document's interface lists."""
+
+import importlib
+import inspect
+import unittest
+
+INTERFACE = {
+    "errors": {
+        "WidthError": None,
+        **{name: "value" for name in (
+            "InvalidNumber InvalidName InvalidRef InvalidLine InvalidStatement InvalidLoop InvalidText InvalidPart "
+            "InvalidBundles InvalidTerm InvalidRules InvalidEdit InvalidCommand InvalidCode UnknownCell").split()},
+        "TooMany": "limit", "NothingToUndo": ""},
+    "lines": {
+        "is_name": "value", "is_ref": "value", "Line": "name, stride=1", "Line.cell": "offset, at",
+        "Line.distance": "first, second", "Line.__mul__": None, "Line.__eq__": None, "Line.name": property,
+        "Line.stride": property},
+    "statements": {
+        "Statement": "name, target=None, *sources", "Statement.name": property, "Statement.target": property,
+        "Statement.sources": property, "Statement.is_sum": property, "Statement.moved": "by",
+        "Statement.__len__": None, "Statement.__getitem__": None, "Statement.__contains__": None,
+        "Statement.__eq__": None},
+    "loops": {
+        "Loop": "lines, *statements", "Loop.lines": property, "Loop.statements": property, "Loop.__len__": None,
+        "Loop.__getitem__": None, "Loop.__contains__": None, "Loop.line": "name", "Loop.cell": "ref, at",
+        "Loop.in_order": "*names", "Loop.__add__": None, "Loop.__eq__": None, "Loop.copying": staticmethod,
+        "Loop.summing": staticmethod},
+}
+
+
+def parameters(thing, method):
+    """The parameters of a function, class or method as they are written, without the object itself."""
+    signature = inspect.signature(thing)
+    kept = list(signature.parameters.values())
+    return str(signature.replace(parameters=kept[1:] if method else kept))[1:-1]
+
+
+class Interface(unittest.TestCase):
+    def test_names_and_parameters(self):
+        for file, names in INTERFACE.items():
+            module = importlib.import_module("vectorwidths." + file)
+            for name, wanted in names.items():
+                with self.subTest(file=file, name=name):
+                    self.check(module, name, wanted)
+
+    def check(self, module, name, wanted):
+        """One name of the interface stands in its own file, and in its own class."""
+        top, _, method = name.partition(".")
+        thing = vars(module)[top]
+        if not isinstance(thing, tuple):
+            self.assertEqual(thing.__module__, module.__name__)
+        if method:
+            thing = vars(thing)[method]
+        if wanted in (property, staticmethod):
+            self.assertIsInstance(thing, wanted)
+        elif isinstance(wanted, str):
+            self.assertEqual(parameters(thing, bool(method)), wanted)
+
+
+if __name__ == "__main__":
+    unittest.main()

@@ -1,0 +1,1 @@
+"""Loops that are done many steps at once, for every width."""
