@@ -31,6 +31,8 @@ ALLOWED_DUNDERS = set(
     "__pos__ __invert__ __abs__ __bool__ __contains__ __getitem__ __setitem__".split())
 OPERATORS = ALLOWED_DUNDERS - set("__init__ __eq__ __repr__ __str__ __len__ __enter__ __exit__ __call__ __iter__".split())
 NOWHERE_NAMES = set("register mro elements open input law version_info with_traceback add_note".split())
+FRAME_NAMES = re.compile(r"(f|tb|co|gi|cr|ag)_(back|builtins|code|globals|lasti|lineno|locals|trace|frame|next|names)")
+BARRED_FILES = re.compile(r"law_.*|tests?|testing|test_.*|site|conftest|sitecustomize|usercustomize")
 NO_VARIABLES = set(
     "attrgetter breakpoint builtins compile copyright credits delattr dir eval exec exit gc getattr globals hasattr "
     "help id importlib license locals methodcaller os quit setattr super type vars sys __name__".split())
@@ -71,7 +73,8 @@ def text_findings(text):
         if not all(" " <= sign <= "~" for sign in row):
             yield (number, "L14", "a character that is not allowed")
         for word in re.findall(r"[A-Za-z0-9_]+", row):
-            if word in NO_WORDS or any(part in word for part in NO_PARTS_OF_WORDS):
+            barred = word in NO_WORDS or any(part in word for part in NO_PARTS_OF_WORDS)
+            if barred or FRAME_NAMES.fullmatch(word):
                 yield (number, "L17", f"the word {word}")
 
 
@@ -281,6 +284,9 @@ def findings(files):
         if not has_setter(trees, both):
             yield ("", 0, "L18", f"{both} is a method and an attribute")
     yield from circle_findings(trees)
+    for name in files:
+        if BARRED_FILES.fullmatch(name) or name in NO_WORDS or name in BUILTIN_NAMES:
+            yield (name, 0, "L14", "the name of a file")
     for name, tree in trees.items():
         for found in (
                 *text_findings(files[name]), *name_findings(tree), *shadow_findings(tree), *node_findings(tree),

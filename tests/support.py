@@ -5,6 +5,7 @@ import unittest
 from vectorwidths.lines import Line
 from vectorwidths.loops import Loop
 from vectorwidths.statements import Statement
+from vectorwidths.ways import Way
 
 GREAT = 10 ** 199
 
@@ -24,7 +25,8 @@ def odd_objects():
 
 def own_objects():
     """Objects of classes of the program."""
-    return [Line("a"), Line("b", 6), Statement("f"), Statement("f", ("a", 1), ("a", 0)), Loop.copying(), Loop.summing()]
+    statements = [Statement("f"), Statement("f", ("a", 1), ("a", 0))]
+    return [Line("a"), Line("b", 6), *statements, Loop.copying(), Loop.summing(), Way(), Way(tail="rest", ahead=3)]
 
 
 def no_integers():

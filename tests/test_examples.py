@@ -25,6 +25,40 @@ EXAMPLES = {
 >>> [len(loop), loop['s'].is_sum, loop.cell(('a', 1), 4), loop.in_order('s', 'f')[0].name]
 [2, True, ('a', 5), 's']
 """,
+    "texts": """
+>>> from vectorwidths.loops import Loop
+>>> from vectorwidths.texts import read, write
+>>> [write(Loop.copying()), read('line a 1\\ns + a@0') == Loop.summing()]
+['line a 1\\nf a@1 a@0', True]
+""",
+    "plain": """
+>>> from vectorwidths.loops import Loop
+>>> from vectorwidths.plain import plain_origins, plain_writers
+>>> [plain_origins(Loop.copying(), 2), plain_writers(Loop.copying(), 1)]
+[{(0, 0, 0): None, (0, 1, 0): (0, 0)}, {('a', 1): (0, 0)}]
+""",
+    "ways": """
+>>> from vectorwidths.ways import Way
+>>> way = Way(tail='rest', ahead=1)
+>>> [way.change('bundles', ((0, 1),))['bundles'], 'tail' in way, way == way.twin()]
+[((0, 1),), True, True]
+""",
+    "wide": """
+>>> from vectorwidths.loops import Loop
+>>> from vectorwidths.ways import Way
+>>> from vectorwidths.wide import blocks, lanes, wide_events
+>>> events = list(wide_events(Loop.copying(), Way(), 2, 2))
+>>> [events, lanes(Way(), 4, 6, 1), blocks(Way(tail='rest'), 4, 6)]
+[[('load', 0, 0, 0), ('load', 0, 1, 0), ('store', 0, 0, 0), ('store', 0, 1, 0)], (4, 5), 1]
+""",
+    "flows": """
+>>> from vectorwidths.loops import Loop
+>>> from vectorwidths.ways import Way
+>>> from vectorwidths.flows import differences, origin_pair
+>>> loop, way = Loop.copying(), Way()
+>>> [differences(loop, way, 2, 2), origin_pair(loop, way, 2, 2, (0, 1, 0))]
+[[('load', 0, 1, 0)], ((0, 0), None)]
+""",
 }
 
 

@@ -25,6 +25,19 @@ INTERFACE = {
         "Loop.__getitem__": None, "Loop.__contains__": None, "Loop.line": "name", "Loop.cell": "ref, at",
         "Loop.in_order": "*names", "Loop.__add__": None, "Loop.__eq__": None, "Loop.copying": staticmethod,
         "Loop.summing": staticmethod},
+    "texts": {"write": "loop", "read": "text"},
+    "plain": {name: "loop, count" for name in ("plain_events", "plain_origins", "plain_writers", "plain_cells")},
+    "ways": {
+        "PARTS": None, "Way": "*, tail='mask', ahead=0, guard=True, bundles=(), joining='row'",
+        **{"Way." + name: property for name in ("tail", "ahead", "guard", "bundles", "joining")},
+        "Way.__getitem__": None, "Way.__setitem__": None, "Way.__contains__": None, "Way.__eq__": None,
+        "Way.change": "part, value", "Way.twin": "", "Way.goes_with": "loop", "Way.careful": staticmethod},
+    "wide": {
+        "blocks": "way, width, count", "lanes": "way, width, count, block",
+        **{name: "loop, way, width, count" for name in ("wide_events", "wide_origins", "wide_writers", "wide_cells")}},
+    "flows": {
+        "differences": "loop, way, width, count", "is_right_at": "loop, way, width, count",
+        "origin_pair": "loop, way, width, count, load"},
 }
 
 

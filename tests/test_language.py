@@ -55,7 +55,13 @@ class Checks(unittest.TestCase):
         self.assertEqual(rules_of("# \t\n"), ["L14"])
         self.assertEqual(rules_of("# the type\n"), ["L17"])
         self.assertEqual(rules_of("# overloaded\n"), ["L17"])
+        self.assertEqual(rules_of("# f_back\n"), ["L17"])
         self.assertEqual(rules_of("# types\n"), [])
+
+    def test_names_of_files(self):
+        for name in ("test_lines", "law_one", "sum", "enum", "conftest"):
+            self.assertEqual(rules_of("X = 1\n", name), ["L14"])
+        self.assertEqual(rules_of("X = 1\n", "sums"), [])
 
     def test_code(self):
         self.assertEqual(rules_of("def far(x):\n    return x is 1\n"), ["L20"])
