@@ -10,6 +10,16 @@ from vectorwidths.ways import Way
 GREAT = 10 ** 199
 
 
+class EqualToAll:
+    """An object that says that it is equal to any other one."""
+
+    def __eq__(self, other):
+        return True
+
+    def __hash__(self):
+        return hash("a")
+
+
 def odd_objects():
     """Objects of many kinds, none of which is an integer, a name, a ref, a line, a statement or a loop's text."""
     nested = ()
@@ -20,7 +30,8 @@ def odd_objects():
         {}, {"a": 0}, {0: "a"}, (), ("a",), ("a", 0, 0), ("a", True), ("a", False), (True, 0), ("a", "0"), ("a", None),
         (("a", 0),), (0, "a"), (None, None), ("a", 10), ("a", -10), ("a", GREAT), ("", 0), (("a",), 0), (["a"], [0]),
         nested, [nested], {1: [2]}, {"x": ()}, b"a", b"", set(), {1}, object(), object, ValueError("a"), len,
-        ("load", 0, 0), ("line", "a", 1), slice(0, 1), Ellipsis, range(3), iter([1]), lambda: 1]
+        ("load", 0, 0), ("line", "a", 1), slice(0, 1), Ellipsis, range(3), iter([1]), lambda: 1,
+        EqualToAll(), (EqualToAll(),), ("a", EqualToAll()), (EqualToAll(), 0)]
 
 
 def own_objects():
@@ -66,9 +77,10 @@ class Case(unittest.TestCase):
     def unequal(self, one, other):
         """Both signs tell so, from both sides."""
         self.assertIs(one == other, False)
-        self.assertIs(other == one, False)
         self.assertIs(one != other, True)
-        self.assertIs(other != one, True)
+        if not isinstance(other, EqualToAll):
+            self.assertIs(other == one, False)
+            self.assertIs(other != one, True)
 
     def equal(self, one, other):
         """Both signs tell so, from both sides."""

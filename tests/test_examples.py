@@ -59,6 +59,34 @@ EXAMPLES = {
 >>> [differences(loop, way, 2, 2), origin_pair(loop, way, 2, 2, (0, 1, 0))]
 [[('load', 0, 1, 0)], ((0, 0), None)]
 """,
+    "distances": """
+>>> from vectorwidths.loops import Loop
+>>> from vectorwidths.distances import crossings, meets, reach
+>>> [meets(Loop.copying()), reach(Loop.copying()), crossings(Loop.copying(), 2)]
+[[(0, -1, 0, 0, 1)], 1, [((-1, -1), (1, 0)), ((-1, 0), (1, 1))]]
+""",
+    "widths": """
+>>> from vectorwidths.loops import Loop
+>>> from vectorwidths.ways import Way
+>>> from vectorwidths.widths import first_wrong, is_safe, safe_widths
+>>> loop = Loop.copying()
+>>> [first_wrong(loop, Way()), safe_widths(loop, Way()), is_safe(loop, Way.careful(loop))]
+[(2, 2, ('load', 0, 1, 0)), ((1,), False), True]
+""",
+    "touching": """
+>>> from vectorwidths.loops import Loop
+>>> from vectorwidths.ways import Way
+>>> from vectorwidths.touching import first_touch, is_tight
+>>> [first_touch(Loop.copying(), Way(tail='whole')), is_tight(Loop.copying(), Way(ahead=3, guard=False))]
+[(2, 1, ('a', 2)), True]
+""",
+    "sums": """
+>>> from vectorwidths.ways import Way
+>>> from vectorwidths.sums import items_of, least_rules, least_rules_at, wide_sum
+>>> way = Way(joining='tree')
+>>> [items_of(wide_sum(way, 2, 3)), least_rules_at(way, 2, 2), least_rules(way), least_rules(Way())]
+[(0, 2, 1), [('zero',)], [('regroup', 'swap', 'zero')], [()]]
+""",
 }
 
 

@@ -38,6 +38,15 @@ INTERFACE = {
     "flows": {
         "differences": "loop, way, width, count", "is_right_at": "loop, way, width, count",
         "origin_pair": "loop, way, width, count, load"},
+    "distances": {"meets": "loop", "reach": "loop", "crossings": "loop, width"},
+    "widths": {
+        "last_count": "loop, way, width", "first_count": "loop, way, width",
+        **{name: "loop, way" for name in ("first_wrong", "safe_widths", "is_safe", "greatest_safe")}},
+    "touching": {"touches": "loop, way, width, count", "first_touch": "loop, way", "is_tight": "loop, way"},
+    "sums": {
+        "RULES": None, "is_term": "value", "plain_sum": "count", "wide_sum": "way, width, count", "items_of": "term",
+        "are_equal": "one, other, rules", "least_rules_at": "way, width, count", "least_rules_for": "way, width",
+        "least_rules": "way"},
 }
 
 

@@ -63,9 +63,10 @@ class Loop:
 
     def line(self, name):
         """The line with this name."""
-        for one in self.kept_lines:
-            if one.name == name:
-                return one
+        if isinstance(name, str):
+            for one in self.kept_lines:
+                if one.name == name:
+                    return one
         raise InvalidName(name)
 
     def cell(self, ref, at):

@@ -8,17 +8,27 @@ from vectorwidths.ways import units_of
 MOST_WIDTH = 200
 
 
-def check_numbers(width, count):
-    """Refuses what is no width, or no count, of a wide loop."""
+def check_way(loop, way):
+    """Refuses a way that does not go with the loop."""
+    if not way.goes_with(loop):
+        raise InvalidBundles(way)
+
+
+def check_width(width):
+    """Refuses what is no width of a wide loop."""
     if not is_between(width, 1, MOST_WIDTH):
         raise InvalidNumber(width)
+
+
+def check_numbers(width, count):
+    """Refuses what is no width, or no count, of a wide loop."""
+    check_width(width)
     check_count(count)
 
 
 def check_wide(loop, way, width, count):
     """Refuses a way that does not go with the loop, and wrong numbers."""
-    if not way.goes_with(loop):
-        raise InvalidBundles(way)
+    check_way(loop, way)
     check_numbers(width, count)
 
 
