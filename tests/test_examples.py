@@ -87,6 +87,33 @@ EXAMPLES = {
 >>> [items_of(wide_sum(way, 2, 3)), least_rules_at(way, 2, 2), least_rules(way), least_rules(Way())]
 [(0, 2, 1), [('zero',)], [('regroup', 'swap', 'zero')], [()]]
 """,
+    "bundles": """
+>>> from vectorwidths.loops import Loop
+>>> from vectorwidths.ways import Way
+>>> from vectorwidths.bundles import all_bundles, is_within, least_bundles
+>>> [least_bundles(Loop.copying(), Way()), list(all_bundles(2)), is_within(((0, 0),), ((0, 1),))]
+[[((0, 0),)], [(), ((0, 0),), ((0, 0), (1, 1)), ((0, 1),), ((1, 1),)], True]
+""",
+    "overlaps": """
+>>> from vectorwidths.lines import Line
+>>> from vectorwidths.statements import Statement
+>>> from vectorwidths.loops import Loop
+>>> from vectorwidths.ways import Way
+>>> from vectorwidths.overlaps import width_form
+>>> loop = Loop([Line('a'), Line('b')], Statement('f', ('b', 0), ('a', 0)))
+>>> form = width_form(loop, Way(), 'a', 'b')
+>>> [form[3], form[0], form[-2], len(form), form.shifts()[:2], form.test(8)[-3:]]
+[3, None, None, 19, [-9, -8], (0, 8, 9)]
+""",
+    "alike": """
+>>> from vectorwidths.lines import Line
+>>> from vectorwidths.statements import Statement
+>>> from vectorwidths.loops import Loop
+>>> from vectorwidths.alike import alike_orders, first_unlike
+>>> loop = Loop([Line('a')], Statement('f', ('a', 0)), Statement('g', None, ('a', 0)))
+>>> [alike_orders(loop), first_unlike(loop, loop.in_order('g', 'f'))]
+[[('f', 'g')], 1]
+""",
 }
 
 

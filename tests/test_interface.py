@@ -47,6 +47,17 @@ INTERFACE = {
         "RULES": None, "is_term": "value", "plain_sum": "count", "wide_sum": "way, width, count", "items_of": "term",
         "are_equal": "one, other, rules", "least_rules_at": "way, width, count", "least_rules_for": "way, width",
         "least_rules": "way"},
+    "ahead": {"safe_aheads": "loop, way", "early_loads": "loop, way"},
+    "bundles": {"all_bundles": "many", "is_within": "one, other", "least_bundles": "loop, way"},
+    "fences": {
+        "free_origins": "loop, number, place, width, count", "bad_places": "loop", "serves": "loop, fences",
+        "least_fences": "loop"},
+    "overlaps": {
+        "overlapped": "loop, first, second, shift", "Form": "values", "Form.__getitem__": None, "Form.__contains__": None,
+        "Form.__len__": None, "Form.shifts": "", "Form.__and__": None, "Form.is_under": "other", "Form.__eq__": None,
+        "Form.test": "width", "width_form": "loop, way, first, second"},
+    "alike": {
+        "are_alike": "one, other", "first_unlike": "one, other", "alike_orders": "loop", "safe_order": "loop, way"},
 }
 
 
