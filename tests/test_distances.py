@@ -4,7 +4,7 @@ import unittest
 
 from tests.samples import drawn_loops, small_loops
 from tests.support import GREAT, Case, no_integers
-from vectorwidths.distances import all_meets, crossings, meets, reach, span
+from vectorwidths.distances import crossings, meets, reach
 from vectorwidths.errors import InvalidNumber
 from vectorwidths.lines import Line
 from vectorwidths.loops import Loop
@@ -21,13 +21,13 @@ def refs_with_numbers(loop):
     return found
 
 
-def meets_by_cells(loop, sources_too=False):
+def meets_by_cells(loop):
     """All pairs gone through, with the distances at which their cells are found to be one."""
     found = []
     for p, a, first in refs_with_numbers(loop):
         for q, b, second in refs_with_numbers(loop):
             ordered = p < q or p == q and a < b
-            if ordered and (sources_too or a == -1 or b == -1):
+            if ordered and (a == -1 or b == -1):
                 for d in range(-20, 21):
                     if loop.cell(first, 30) == loop.cell(second, 30 + d):
                         found.append((p, a, q, b, d))
@@ -46,9 +46,6 @@ class Meets(Case):
             found = meets_by_cells(loop)
             self.assertEqual(meets(loop), found)
             self.assertEqual(reach(loop), max([abs(meeting[4]) for meeting in found] + [0]))
-            found = meets_by_cells(loop, sources_too=True)
-            self.assertEqual(all_meets(loop), found)
-            self.assertEqual(span(loop), max([abs(meeting[4]) for meeting in found] + [0]))
 
     def test_told_pairs(self):
         self.assertEqual(meets(Loop.copying()), [(0, -1, 0, 0, 1)])
@@ -86,7 +83,7 @@ class Meets(Case):
         self.assertEqual([reach(loop), meets(loop)], [18, [(0, -1, 0, 0, -18)]])
         self.assertEqual(reach(far_loop(-9, stride=3)), 6)
         loop = Loop([Line("a")], Statement("f", ("a", 1), ("a", 9), ("a", -9)))
-        self.assertEqual([reach(loop), span(loop)], [10, 18])
+        self.assertEqual(reach(loop), 10)
 
 
 class Crossings(Case):

@@ -39,6 +39,42 @@ def touched(loop, way, width, count):
     return sorted(play_wide(loop, way, width, count).cells - play_plain(loop, count).cells)
 
 
+def first_by_cells(loop, way):
+    """The first touch of all widths and counts up to the document's bounds, by the sets of the cells alone."""
+    alone = [j for first, last in way.bundles for j in range(first, last + 1)]
+    strides = {line.name: line.stride for line in loop.lines}
+    sources = [ref for j, one in enumerate(loop.statements) if j not in alone for ref in one.sources]
+    refs = [ref for one in loop.statements for ref in [one.target, *one.sources] if ref is not None]
+
+    def cells(some, iterations):
+        return {(line, strides[line] * i + offset) for line, offset in some for i in iterations}
+
+    for width in range(1, span_of(loop) + 3):
+        for count in range(span_of(loop) + 2 * width + 1):
+            many = count // width if way.tail == "rest" else -(-count // width)
+            found = cells(refs, range(many * width)) if way.tail == "whole" else set()
+            if way.tail != "mask" and many > 0 and not way.guard:
+                found |= cells(sources, range(many * width, (many + way.ahead) * width))
+            found -= cells(refs, range(count))
+            if found:
+                return (width, count, min(found))
+    return None
+
+
+def drawn_far(many, seed):
+    """So many loops and ways with one wide load far behind many refs that are done lane by lane."""
+    draw = random.Random(seed)
+    for _ in range(many):
+        stride = draw.choice((1, 1, 1, 2))
+        offsets = sorted(draw.sample(range(-8, 10), draw.randint(4, 15)))
+        others = [offsets[at:at + 3] for at in range(0, min(12, len(offsets)), 3)]
+        first = Statement("f", draw.choice((("b", 0), ("a", offsets[-1]), None)), ("a", -9))
+        statements = [Statement("ghij"[at], None, *[("a", offset) for offset in row]) for at, row in enumerate(others)]
+        yield (
+            Loop([Line("a", stride), Line("b")], first, *statements),
+            loose(draw.choice((1, 1, 2, 3)), "rest", ((1, len(statements)),)))
+
+
 class AgainstCells(Case):
     def test_touches(self):
         draw = random.Random(5)
@@ -79,6 +115,31 @@ class AgainstCells(Case):
             for ahead in range(1, 4):
                 for tail in ("mask", "rest", "whole"):
                     self.check(loop, loose(ahead, tail))
+
+    def test_far_touches(self):
+        widths = set()
+        for loop, way in drawn_far(40, 8):
+            found = first_by_cells(loop, way)
+            self.assertEqual(first_touch(loop, way), found)
+            self.assertIs(is_tight(loop, way), False)
+            widths.add(found[0])
+        self.assertGreater(len(widths), 8)
+
+    def test_great_offsets(self):
+        for most in (5, 9):
+            for number, loop in enumerate(drawn_loops(100, 90 + most, 3, most)):
+                bundles = ALL_BUNDLES[len(loop)][number % len(ALL_BUNDLES[len(loop)])]
+                for way in (*drawn_ways(loop, 1, number), loose(1 + number % 3, "rest", bundles)):
+                    self.assertEqual(first_touch(loop, way), first_by_cells(loop, way))
+
+    def test_short_time(self):
+        loops = [*drawn_loops(100, 95, 5, 9), *[loop for loop, way in drawn_far(50, 9)]]
+        ways = [loose(ahead, tail) for ahead in (1, 2, 3) for tail in ("rest", "whole")]
+        begun = time.process_time()
+        for loop in loops:
+            for way in ways:
+                first_touch(loop, way)
+        self.assertLess(time.process_time() - begun, 0.005 * len(loops) * len(ways))
 
     def test_all_ways_of_copying(self):
         for way in all_ways(Loop.copying()):

@@ -4,8 +4,8 @@ from vectorwidths.plain import TARGET, spots_of
 from vectorwidths.wide import check_width
 
 
-def all_meets(loop):
-    """The sorted list of the tuples (p, a, q, b, d) of all pairs of refs that meet, also of two sources."""
+def meets(loop):
+    """The sorted list of the tuples (p, a, q, b, d) of all pairs of refs that meet, with a target among them."""
     spots = spots_of(loop)
     refs = sorted(spots)
     found = []
@@ -14,29 +14,14 @@ def all_meets(loop):
         for second in refs[at + 1:]:
             other_line, other_stride, other_offset = spots[second]
             distance = loop.line(line).distance(offset, other_offset)
-            if line == other_line and distance is not None:
+            if line == other_line and distance is not None and TARGET in (first[1], second[1]):
                 found.append((*first, *second, distance))
     return found
 
 
-def meets(loop):
-    """The sorted list of the tuples (p, a, q, b, d) of the pairs that meet, with a target among them."""
-    return [(p, a, q, b, distance) for p, a, q, b, distance in all_meets(loop) if TARGET in (a, b)]
-
-
-def greatest(found):
-    """The greatest absolute value of the distances of tuples (p, a, q, b, d), 0 if there are none."""
-    return max([abs(distance) for p, a, q, b, distance in found], default=0)
-
-
 def reach(loop):
-    """The greatest absolute value of the distances at which a target meets another ref."""
-    return greatest(meets(loop))
-
-
-def span(loop):
-    """The greatest absolute value of the distances at which any two refs meet."""
-    return greatest(all_meets(loop))
+    """The greatest absolute value of the distances at which a target meets another ref, 0 if there are none."""
+    return max([abs(distance) for p, a, q, b, distance in meets(loop)], default=0)
 
 
 def crossings(loop, width):
