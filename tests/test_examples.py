@@ -114,6 +114,19 @@ EXAMPLES = {
 >>> [alike_orders(loop), first_unlike(loop, loop.in_order('g', 'f'))]
 [[('f', 'g')], 1]
 """,
+    "fusing": """
+>>> from vectorwidths.loops import Loop
+>>> from vectorwidths.fusing import can_part, first_unfused, fused
+>>> loop = fused(Loop.copying(), Loop.summing())
+>>> [first_unfused(Loop.copying(), Loop.summing()), can_part(loop), can_part(loop.in_order('s', 'f'))]
+[None, [1], []]
+""",
+    "codes": """
+>>> from vectorwidths.loops import Loop
+>>> from vectorwidths.codes import compiled
+>>> [compiled(Loop.copying()), compiled(Loop.summing(), ((0, 0),))]
+[[('load', 0, 'a', 0), ('call', 9, 'f', 0), ('store', 'a', 1, 9)], [('lane', (('load', 0, 'a', 0), ('call', 9, 's', 0), ('add', 's', 9)))]]
+""",
 }
 
 

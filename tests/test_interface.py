@@ -58,6 +58,14 @@ INTERFACE = {
         "Form.test": "width", "width_form": "loop, way, first, second"},
     "alike": {
         "are_alike": "one, other", "first_unlike": "one, other", "alike_orders": "loop", "safe_order": "loop, way"},
+    "fusing": {"fused": "one, other", "parted": "loop, at", "first_unfused": "one, other", "can_part": "loop"},
+    "turning": {"turned_origins": "loop, count", "first_unturned": "loop", "unrolled": "loop, times"},
+    "codes": {"is_code": "value", "compiled": "loop, bundles=()"},
+    "machines": {
+        "Machine": "width, cells=None, *, tail='mask', functions=None", "Machine.width": property,
+        "Machine.functions": property, "Machine.__getitem__": None, "Machine.__setitem__": None, "Machine.cells": "",
+        "Machine.sums": property, "Machine.__call__": "code, loop, count",
+        "played": "loop, functions, count, cells=None"},
 }
 
 

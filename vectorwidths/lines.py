@@ -1,7 +1,7 @@
 """Lines, refs and cells: how a ref goes along a row of cells from iteration to iteration."""
 
 from vectorwidths.errors import InvalidName, InvalidNumber
-from vectorwidths.integers import is_between, is_count
+from vectorwidths.integers import is_between, is_count, is_integer
 
 LONGEST_NAME = 8
 GREATEST_OFFSET = 9
@@ -23,6 +23,11 @@ def is_offset(value):
 def is_ref(value):
     """Whether any value is a ref: a tuple (line, offset)."""
     return isinstance(value, tuple) and len(value) == 2 and is_name(value[0]) and is_offset(value[1])
+
+
+def is_cell(value):
+    """Whether any value is a cell: a tuple (line, place)."""
+    return isinstance(value, tuple) and len(value) == 2 and is_name(value[0]) and is_integer(value[1])
 
 
 class Line:
