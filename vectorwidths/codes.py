@@ -3,7 +3,7 @@
 from vectorwidths.errors import InvalidBundles
 from vectorwidths.integers import is_between
 from vectorwidths.lines import is_name, is_ref
-from vectorwidths.ways import are_bundles, units_of
+from vectorwidths.ways import are_bundles_of, units_of
 
 GREATEST_COUNT = 9
 MOST_READ = 3
@@ -68,7 +68,7 @@ def statement_orders(statement):
 
 def compiled(loop, bundles=()):
     """The code of a loop, in which the statements of bundles are done lane by lane."""
-    if not are_bundles(bundles) or not all([last < len(loop) for first, last in bundles]):
+    if not are_bundles_of(bundles, loop):
         raise InvalidBundles(bundles)
     code = []
     for first, last, bundled in units_of(bundles, len(loop)):

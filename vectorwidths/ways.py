@@ -32,6 +32,11 @@ def are_bundles(value):
     return all([value[at][1] < value[at + 1][0] for at in range(len(value) - 1)])
 
 
+def are_bundles_of(value, loop):
+    """Whether any value is a tuple of bundles of statements of the loop."""
+    return are_bundles(value) and all([last < len(loop) for first, last in value])
+
+
 def is_allowed(part, value):
     """Whether the part of this name may have any value."""
     if part == "tail":
@@ -122,7 +127,7 @@ class Way:
 
     def goes_with(self, loop):
         """Whether the numbers of the bundles are numbers of statements of the loop."""
-        return all([last < len(loop) for first, last in self.bundles])
+        return are_bundles_of(self.bundles, loop)
 
     def __getitem__(self, at):
         if at not in self:
