@@ -127,6 +127,37 @@ EXAMPLES = {
 >>> [compiled(Loop.copying()), compiled(Loop.summing(), ((0, 0),))]
 [[('load', 0, 'a', 0), ('call', 9, 'f', 0), ('store', 'a', 1, 9)], [('lane', (('load', 0, 'a', 0), ('call', 9, 's', 0), ('add', 's', 9)))]]
 """,
+    "papers": """
+>>> from vectorwidths.loops import Loop
+>>> from vectorwidths.ways import Way
+>>> from vectorwidths.papers import accepts, paper
+>>> loop = Loop.copying()
+>>> [paper(loop, Way()), accepts(loop, Way(), paper(loop, Way())), accepts(loop, Way(), ('right', ()))]
+[('wrong', 2, 2, ('load', 0, 1, 0)), True, False]
+""",
+    "changes": """
+>>> from vectorwidths.loops import Loop
+>>> from vectorwidths.ways import Way
+>>> from vectorwidths.changes import least_changes
+>>> least_changes(Loop.copying(), Way(), [('ahead', 1), ('bundles', ((0, 0),))])
+[(('bundles', ((0, 0),)),)]
+""",
+    "sessions": """
+>>> from vectorwidths.loops import Loop
+>>> from vectorwidths.ways import Way
+>>> from vectorwidths.sessions import Session
+>>> session = Session(Loop.copying(), Way())
+>>> told = session.attempt([('change', ('tail', 'rest')), ('change', ('bundles', ((0, 0),)))])
+>>> [told, session.verdict(), session.undo(), session.verdict(), session.way.tail]
+[(None, None), None, None, (2, 2, ('load', 0, 1, 0)), 'rest']
+""",
+    "console": """
+>>> from vectorwidths.console import Console
+>>> console = Console()
+>>> lines = ['load line a 1; f a@1 a@0', 'wrong', 'safe', 'bundles 0-0', 'safe', 'rules', 'right 5 9']
+>>> [console.run(line) for line in lines]
+['ok', '2 2', '1', 'ok', '1 2 3 +', 'none', 'yes']
+""",
 }
 
 

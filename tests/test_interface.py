@@ -66,6 +66,16 @@ INTERFACE = {
         "Machine.functions": property, "Machine.__getitem__": None, "Machine.__setitem__": None, "Machine.cells": "",
         "Machine.sums": property, "Machine.__call__": "code, loop, count",
         "played": "loop, functions, count, cells=None"},
+    "papers": {"paper": "loop, way", "accepts": "loop, way, value"},
+    "changes": {"edited": "loop, way, edits", "least_changes": "loop, way, menu"},
+    "notes": {
+        "Notes": "", "Notes.__setitem__": None, "Notes.__getitem__": None, "Notes.__contains__": None, "Notes.__len__": None,
+        "Notes.names": "", "Notes.alike_to": "loop"},
+    "sessions": {
+        "Session": "loop, way", "Session.loop": property, "Session.way": property, "Session.change": "part, value",
+        "Session.replace": "loop", "Session.verdict": "", "Session.undo": "", "Session.attempt": "deeds",
+        "together": "sessions, deeds"},
+    "console": {"Console": "", "Console.run": "line"},
 }
 
 
